@@ -1,0 +1,1 @@
+"""Presumebooks: all houses or none, by books that may be lost."""
