@@ -128,9 +128,14 @@ def written(book, log, record):
     return log_behind(book.word(record), log, record)
 
 
+def beginnings(log):
+    """All logs that a fall can leave of a log, ascending."""
+    records, safe = log
+    return [(records[:left], left) for left in range(safe, len(records) + 1)]
+
+
 def left_by(log):
     """The ascending list of all logs that a fall can leave."""
     if not is_log(log):
         raise BadLog("no log of the chair or of a house")
-    records, safe = log
-    return [(records[:left], left) for left in range(safe, len(records) + 1)]
+    return beginnings(log)

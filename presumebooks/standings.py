@@ -49,3 +49,8 @@ def is_standing(thing):
     if not isinstance(houses, tuple) or not 1 <= len(houses) <= MOST_HOUSES:
         return False
     return is_chair(chair) and all([is_house(house) for house in houses])
+
+
+def is_lone_standing(thing):
+    """Whether any value is a standing of one house."""
+    return is_standing(thing) and len(thing[1]) == 1

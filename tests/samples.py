@@ -1,13 +1,22 @@
 """Values that the tests share."""
 
-from itertools import permutations
+from functools import lru_cache
+from itertools import combinations, permutations, product
 
 from presumebooks.books import Book
+from presumebooks.errors import DealError
+from tests.model import model_held
 
 CHAIR = ("begin", "yes", "no")
 HOUSE = ("agreed", "ready", "refused")
 PARTS = ("begin", "yes", "no", "ready", "agreed", "refused", "answers", "presume")
 WORDS = ("none", "lazy", "forced")
+ALL_ANSWERS = ((), ("no",), ("yes",), ("no", "yes"))
+PRESUMPTIONS = ("no", "wait", "yes")
+WISHES = ("honest", "kept", "quiet", "steady")
+RECORDS = tuple(sorted((*CHAIR, *HOUSE)))
+# All lots of records, ordered by length, then ascending.
+LOTS = [lot for length in range(7) for lot in combinations(RECORDS, length)]
 
 
 def sample_book(**changed):
@@ -73,3 +82,48 @@ def spoil(value):
         value["spoiled"] = True
     if isinstance(value, list):
         value.append("spoiled")
+
+
+def all_books():
+    """All books there are, made anew by each call."""
+    return [
+        Book(*words, answers, presume)
+        for words, answers, presume in product(product(WORDS, repeat=6), ALL_ANSWERS, PRESUMPTIONS)
+    ]
+
+
+def presumed_no(**changed):
+    """The book that presumes no, with no record that it does not need for honest and kept."""
+    parts = {"begin": "none", "yes": "forced", "no": "none", "ready": "forced", "agreed": "forced", "refused": "none"}
+    return Book(**{**parts, "answers": ["yes"], "presume": "no", **changed})
+
+
+def presumed_yes(**changed):
+    """The book that presumes yes, with no record that it does not need for honest and kept."""
+    parts = {"begin": "forced", "yes": "forced", "no": "none", "ready": "forced", "agreed": "none"}
+    return Book(**{**parts, "refused": "forced", "answers": ["no"], "presume": "yes", **changed})
+
+
+def nothing_presumed(**changed):
+    """The book that presumes nothing, with no record that it does not need for all wishes; all is answered."""
+    parts = {"begin": "forced", "yes": "forced", "no": "none", "ready": "forced", "agreed": "none"}
+    return Book(**{**parts, "refused": "none", "answers": ["no", "yes"], "presume": "wait", **changed})
+
+
+@lru_cache(maxsize=None)
+def held_by_lots(answers, presume, rest):
+    """The dict from all lots to the wishes that hold with these records forced and all others having the word rest."""
+    found = {}
+    for lot in LOTS:
+        words = {record: "forced" if record in lot else rest for record in RECORDS}
+        found[lot] = model_held(Book(**words, answers=answers, presume=presume))
+    return found
+
+
+def error_of(call, *passed, **named):
+    """The class and the attributes of the error of the package that a call raises, as a tuple."""
+    try:
+        call(*passed, **named)
+    except DealError as error:
+        return (type(error).__name__, *vars(error).values())
+    raise AssertionError("no error")

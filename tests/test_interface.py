@@ -7,6 +7,40 @@ import unittest
 FUNCTIONS = {
     "books": {"written": ("book", "log", "record"), "left_by": ("log",)},
     "standings": {"first": ("houses",), "is_standing": ("thing",)},
+    "deeds": {
+        "deeds_at": ("book", "standing"),
+        "behind": ("book", "standing", "deed"),
+        "may_do": ("book", "standing", "thing"),
+    },
+    "runs": {
+        "is_run": ("book", "houses", "thing"),
+        "led_to": ("book", "houses", "run"),
+        "ends": ("book", "houses", "run"),
+    },
+    "comes": {"standings_of": ("book",), "run_to": ("book", "standing"), "is_closed": ("book", "thing")},
+    "wishes": {
+        "breaks": ("book", "wish", "standing"),
+        "holds": ("book", "wish"),
+        "breaker": ("book", "wish"),
+        "falls_to": ("book", "wish"),
+        "paper": ("book", "wish"),
+        "is_paper": ("book", "wish", "thing"),
+    },
+    "many": {
+        "cut": ("book", "houses", "run", "house"),
+        "is_alike": ("book",),
+        "unlike_run": ("book",),
+        "spread": ("book", "run"),
+    },
+    "lots": {
+        "least_forced": ("book", "wishes"),
+        "least_written": ("book", "wishes"),
+        "needless": ("book", "wishes"),
+    },
+    "costs": {
+        "costs": ("book", "outcome", "houses"),
+        "cheapest": ("book", "wishes", "outcome", "houses"),
+    },
 }
 METHODS = {
     ("books", "Book"): {
