@@ -9,9 +9,10 @@ from presumebooks.standings import first
 from presumebooks.wishes import all_hold, breaker, is_broken
 
 # What a second house does as soon as it can, in this order, beside one with which a wish is broken: it ends by the
-# other outcome, and answers whatever it is told, so that the chair need not wait for it.
+# other outcome, and answers, so that the chair need not wait for it. (Where honest is broken the chair never decided
+# yes, so it never waits for an answer to that.)
 BESIDE_KEPT = (("vote", 1), ("tell", 1), ("hear", 1, "yes"), ("answer", 1, "no"), ("answer", 1, "yes"))
-BESIDE_HONEST = (("refuse", 1), ("tell", 1), ("answer", 1, "no"), ("answer", 1, "yes"))
+BESIDE_HONEST = (("refuse", 1), ("tell", 1), ("answer", 1, "no"))
 
 
 def cut(book, houses, run, house):
