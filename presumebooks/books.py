@@ -84,14 +84,25 @@ class Book:
         return Book(*words, self.answers, self.presume)
 
 
+def check_pair(one, other):
+    """Raises an error unless these are two books."""
+    if not isinstance(one, Book):
+        raise BadBook("one")
+    if not isinstance(other, Book):
+        raise BadBook("other")
+
+
+def are_records_of(thing, choices):
+    """Whether any value is a tuple of different records that are all among the choices."""
+    return isinstance(thing, tuple) and first_unfit(thing, choices) is None
+
+
 def is_log_of(thing, choices):
     """Whether any value is a log of records that are all among the choices."""
     if not is_tuple(thing, 2):
         return False
     records, safe = thing
-    if not isinstance(records, tuple) or first_unfit(records, choices) is not None:
-        return False
-    return is_number(safe, 0, len(records))
+    return are_records_of(records, choices) and is_number(safe, 0, len(records))
 
 
 def is_log(thing):

@@ -1,6 +1,7 @@
 """Searches among the standings of one house."""
 
 from presumebooks.moves import ENDED, and_one, chair_moves, has_asked, has_done, house_moves, outcome_told
+from presumebooks.standings import first
 
 
 class Course:
@@ -57,7 +58,8 @@ class Course:
 
 
 def search(start, follow, found):
-    """Goes from a standing, by layers, wherever follow leads, up to a standing that is found.
+    """Goes from a standing, or whatever else can be the key of a dict, by layers, wherever follow leads, up to a
+    standing that is found.
 
     follow(standing) is a list of pairs of a deed and the standing behind it. The answer is the standing that is
     found, None if there is none, and a dict from each standing seen to the pair of the one ahead of it and the deed
@@ -76,6 +78,17 @@ def search(start, follow, found):
                     coming.append(other)
         layer = coming
     return (None, came)
+
+
+def told_standings(book):
+    """All standings of one house that come if all is told and answered at once that can be.
+
+    Tellings and answers take away no deed but themselves, so beside each standing that comes there is one of these
+    that differs from it in what was told and answered alone.
+    """
+    course = Course(book)
+    _, came = search(first(1), course.eager_moves, lambda standing: False)
+    return list(came)
 
 
 def run_back(came, standing):

@@ -4,7 +4,9 @@ from functools import lru_cache
 from itertools import combinations, permutations, product
 
 from presumebooks.books import Book
+from presumebooks.desk import Desk
 from presumebooks.errors import DealError
+from presumebooks.office import Office
 from tests.model import model_held
 
 CHAIR = ("begin", "yes", "no")
@@ -49,6 +51,20 @@ def deep(value, times):
     return value
 
 
+def busy_office(houses=2):
+    """An office that has done something."""
+    office = Office(sample_book(), houses)
+    office.do_all([("ask",), ("vote", 0)])
+    office.swap(presumed_yes())
+    return office
+
+
+def sample_desk(houses=2):
+    """A desk with the book that sample_book makes."""
+    lines = ("begin none", "yes forced", "no lazy", "ready forced", "agreed lazy", "refused none", "answers yes")
+    return Desk("".join([line + "\n" for line in (*lines, "presume no")]), houses)
+
+
 def any_values():
     """Values of all kinds that "any value" tells, made anew by each call; no record, word, outcome or log."""
     return [
@@ -57,6 +73,7 @@ def any_values():
         [], (), {}, [0], (0,), {0: 0}, ["begin"], ("begin",), {"begin": "lazy"}, ["yes", ["no"]],
         [[1], (True, [None])], ([1, {"a": [2]}], "b"), {"a": [1, {"b": [2]}], (1, "c"): ([3],)},
         deep("yes", 12), deep([], 11), sample_book(), [sample_book()], (sample_book(), 1), {"book": sample_book()},
+        busy_office(), [busy_office()], sample_desk(), (sample_desk(), {"office": busy_office()}),
     ]
 
 
@@ -68,6 +85,12 @@ def exactly(value):
         return ("dict", tuple([(exactly(key), exactly(value[key])) for key in value]))
     if isinstance(value, Book):
         return ("Book", tuple([exactly(getattr(value, part)) for part in PARTS]))
+    if isinstance(value, Office):
+        seen = (value.book, value.houses, value.standing, value.log)
+        return ("Office", tuple([exactly(one) for one in seen]))
+    if isinstance(value, Desk):
+        lines = ("chair", "log", "doubt", *[f"{word} {k}" for word in ("house", "log") for k in range(5)])
+        return ("Desk", tuple([value.say(line) for line in lines]))
     return (type(value).__name__, value)
 
 

@@ -41,6 +41,24 @@ FUNCTIONS = {
         "costs": ("book", "outcome", "houses"),
         "cheapest": ("book", "wishes", "outcome", "houses"),
     },
+    "faces": {
+        "faces": ("book",),
+        "alone": ("one", "other"),
+        "run_alone": ("one", "other"),
+        "presumptions": ("book", "wishes"),
+    },
+    "likeness": {"is_outside": ("book", "thing"), "parting": ("one", "other"), "do_alike": ("one", "other")},
+    "back": {
+        "may_have": ("book", "chair_log", "house_log"),
+        "sure_of": ("book", "chair_log", "house_log"),
+        "logs_left": ("book",),
+    },
+    "journals": {
+        "journal_of": ("office",),
+        "first_wrong": ("book", "houses", "journal"),
+        "replayed": ("book", "houses", "journal"),
+    },
+    "texts": {"book_text": ("book",), "read_book": ("text",), "run_text": ("run",), "read_run": ("text",)},
 }
 METHODS = {
     ("books", "Book"): {
@@ -50,6 +68,22 @@ METHODS = {
         "with_forced": ("lot", "rest"),
         "__eq__": ("other",),
     },
+    ("office", "Office"): {
+        "__init__": ("book", "houses"),
+        "do": ("deed",),
+        "do_all": ("deeds",),
+        "undo": (),
+        "swap": ("book",),
+        "may": (),
+        "doubtful": (),
+        "is_unlike": (),
+        "tried": ("work",),
+        "copy": (),
+        "__enter__": (),
+        "__exit__": ("kind", "value", "trace"),
+        "__eq__": ("other",),
+    },
+    ("desk", "Desk"): {"__init__": ("text", "houses"), "say": ("line",)},
     ("errors", "BadBook"): {"__init__": ("part",)},
     ("errors", "BadRecord"): {"__init__": ("record",)},
     ("errors", "BadNumber"): {"__init__": ("number",)},
@@ -85,6 +119,13 @@ class Interface(unittest.TestCase):
         parameters = inspect.signature(module("books").Book).parameters
         defaults = {name: one.default for name, one in parameters.items() if one.default is not one.empty}
         self.assertEqual(defaults, {"answers": (), "presume": "no"})
+
+    def test_attributes_are_there_from_the_beginning(self):
+        book = module("books").Book(*["lazy"] * 6)
+        office = module("office").Office(book, 1)
+        for thing, names in ((book, ("answers", "presume", "forced")), (office, ("book", "houses", "standing", "log"))):
+            for name in names:
+                self.assertTrue(hasattr(thing, name), name)
 
     def test_init_defines_nothing(self):
         thing = importlib.import_module("presumebooks")
